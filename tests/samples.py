@@ -1,0 +1,79 @@
+"""Halls, states and odd values that several tests use."""
+
+import unittest
+
+H = (("a", "b", "c"), (("x", "a", "b"), ("y", "b", "c"), ("z", "a", "c")))
+S = (("a", "b", "c"), (("p", "a"),))
+
+LETTERS = "abcdefghijklmnopqrstuvwxyz"
+
+NO_TUPLES = (
+    None, True, False, 0, 1, -1, 2, 10 ** 3999, -(10 ** 3999),
+    "", "a", "ab", "rooms", "(('a',), ())", " \n",
+)
+
+NO_STRINGS = (
+    None, True, False, 0, 1, -7, 10 ** 3999, (), ("a",), ("a", "b"), (((((((("a",),),),),),),),),
+)
+
+NO_NAMES = (
+    "", "abcdefg", "a" * 2000, "A", "aB", "a1", "1", "_", "a_b", "a b", " a", "a ", "\na", "a\n", "\n", " ",
+    "-a", "a-", "a;", "`", "{", "@a", "[a",
+)
+
+NAMES = ("a", "z", "az", "abcdef", "zzzzzz", "p", "rooms", "door", "faces", "walker")
+
+
+def nested(value, depth):
+    """Return the value inside so many tuples."""
+    for _ in range(depth):
+        value = (value,)
+    return value
+
+
+def wide_hall(rooms, doors):
+    """Return a hall with so many rooms and doors; neighbouring rooms of a circle are joined."""
+    names = tuple(LETTERS[n] for n in range(rooms))
+    joined = []
+    for n in range(doors):
+        joined.append((LETTERS[n] + "d", names[n % rooms], names[(n + 1) % rooms]))
+    return (names, tuple(joined))
+
+
+def wide_state(hall, walkers):
+    """Return a state of the hall with so many walkers; the doors face their ends by turns."""
+    rooms, doors = hall
+    faces = tuple(door[1 + n % 2] for n, door in enumerate(doors))
+    places = tuple((LETTERS[n] + "w", rooms[n * 3 % len(rooms)]) for n in range(walkers))
+    return (faces, places)
+
+
+def many_halls():
+    """Return halls of every size, with and without doors."""
+    halls = [H]
+    for rooms in range(1, 9):
+        for doors in range(13 if rooms > 1 else 1):
+            halls.append(wide_hall(rooms, doors))
+    return halls
+
+
+class Case(unittest.TestCase):
+    """A test case that looks at the values of errors."""
+
+    def raises(self, error, values, call, *args):
+        """Check that the call raises exactly this error with exactly these attributes."""
+        with self.assertRaises(error) as caught:
+            call(*args)
+        self.assertIs(type(caught.exception), error)
+        for name, value in values.items():
+            found = getattr(caught.exception, name)
+            self.assertEqual(found, value)
+            self.assertIs(type(found), type(value))
+
+    def gives(self, wanted, call, *args):
+        """Check the result and its kinds, that the call can be made again, and that its arguments stay the same."""
+        before = repr(args)
+        result = call(*args)
+        self.assertEqual(repr(result), repr(wanted))
+        self.assertEqual(repr(call(*args)), repr(wanted))
+        self.assertEqual(repr(args), before)

@@ -1,0 +1,31 @@
+"""The helper module: forms of any value."""
+
+import unittest
+
+from tests.samples import NAMES, NO_NAMES, NO_STRINGS
+from turndoors.forms import has_shape, is_name, is_strings
+
+
+class FormsTest(unittest.TestCase):
+
+    def test_names(self):
+        for value in NAMES:
+            self.assertIs(is_name(value), True)
+        for value in NO_NAMES + NO_STRINGS:
+            self.assertIs(is_name(value), False)
+
+    def test_strings(self):
+        for value in ((), ("",), ("a", "B c\n")):
+            self.assertIs(is_strings(value), True)
+        for value in (None, "ab", ["a"], ("a", 1), (True,), (("a",),)):
+            self.assertIs(is_strings(value), False)
+
+    def test_shape(self):
+        for value in (((), ()), (("a",), (("x", "y"), ("", "")))):
+            self.assertIs(has_shape(value, 2), True)
+        for value in (None, "ab", (), ((),), ((), (), ()), ((1,), ()), ((), (("x",),)), ((), (("x", 1),)), ((), "")):
+            self.assertIs(has_shape(value, 2), False)
+
+
+if __name__ == "__main__":
+    unittest.main()

@@ -1,0 +1,99 @@
+"""The interface of what has landed, and the outer form of the package's files."""
+
+import ast
+import importlib
+import inspect
+import pathlib
+import unittest
+
+PACKAGE = pathlib.Path(__file__).resolve().parent.parent / "turndoors"
+
+FUNCTIONS = {
+    "turndoors.halls": (
+        "validate_hall(value)", "ends_of(hall, door)", "doors_at(hall, room)", "glue(hall, one, other)",
+    ),
+    "turndoors.states": (
+        "validate_state(hall, value)", "counts(hall, state)", "crowd(hall, state)", "room_of(state, walker)",
+        "glue_state(state, one, other)",
+    ),
+    "turndoors.texts": (
+        "format_hall(hall)", "parse_hall(text)", "format_state(state)", "parse_state(hall, text)",
+    ),
+}
+
+CLASSES = {
+    "turndoors.errors": (
+        "HallError", "InvalidHall", "InvalidState", "InvalidText", "Blocked", "NotRing", "Mismatch", "TooMany", "Full",
+        "Unbalanced", "Rejected", "InvalidCommand", "UnknownRoom", "UnknownDoor", "UnknownWalker",
+    ),
+}
+
+
+def files_with_trees():
+    """Return the path and the tree of each file of the package."""
+    return [(path, ast.parse(path.read_text(encoding="utf-8"))) for path in sorted(PACKAGE.rglob("*.py"))]
+
+
+class InterfaceTest(unittest.TestCase):
+
+    def test_functions(self):
+        for module, signatures in FUNCTIONS.items():
+            for signature in signatures:
+                name = signature.partition("(")[0]
+                function = getattr(importlib.import_module(module), name)
+                self.assertEqual(name + str(inspect.signature(function)), signature)
+                self.assertEqual(function.__module__, module)
+
+    def test_classes(self):
+        for module, names in CLASSES.items():
+            for name in names:
+                found = getattr(importlib.import_module(module), name)
+                self.assertTrue(inspect.isclass(found))
+                self.assertEqual(found.__module__, module)
+
+    def test_init_holds_only_a_docstring(self):
+        tree = ast.parse((PACKAGE / "__init__.py").read_text(encoding="utf-8"))
+        self.assertEqual(len(tree.body), 1)
+        self.assertIsNotNone(ast.get_docstring(tree))
+
+
+class OuterFormTest(unittest.TestCase):
+
+    def test_only_python_files(self):
+        others = [
+            path.name for path in PACKAGE.rglob("*")
+            if path.suffix != ".py" and "__pycache__" not in path.parts
+        ]
+        self.assertEqual(others, [])
+
+    def test_characters_and_sizes(self):
+        for path, tree in files_with_trees():
+            text = path.read_text(encoding="utf-8")
+            self.assertTrue(all(" " <= sign <= "~" or sign == "\n" for sign in text), path)
+            lines = text.splitlines()
+            self.assertLessEqual(len(lines), 399, path)
+            self.assertLessEqual(max(len(line) for line in lines), 120, path)
+            for node in ast.walk(tree):
+                if isinstance(node, ast.FunctionDef):
+                    self.assertLessEqual(node.end_lineno - node.lineno + 1, 40, (path, node.name))
+
+    def test_imports(self):
+        for path, tree in files_with_trees():
+            for node in ast.walk(tree):
+                self.assertNotIsInstance(node, ast.Import, path)
+                if isinstance(node, ast.ImportFrom):
+                    self.assertEqual(node.module.partition(".")[0], "turndoors", path)
+                    for alias in node.names:
+                        found = getattr(importlib.import_module(node.module), alias.name)
+                        self.assertEqual(getattr(found, "__module__", node.module), node.module, path)
+
+    def test_no_generator_expressions_and_no_decorators(self):
+        # Keeper will have an __eq__, and beside such a class LANGUAGE.md asks for lists in all, any and sum.
+        for path, tree in files_with_trees():
+            for node in ast.walk(tree):
+                self.assertNotIsInstance(node, ast.GeneratorExp, path)
+                self.assertEqual(getattr(node, "decorator_list", []), [], path)
+
+
+if __name__ == "__main__":
+    unittest.main()

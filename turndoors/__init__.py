@@ -1,0 +1,1 @@
+"""Turndoors: doors that turn behind the walker."""

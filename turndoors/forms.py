@@ -1,0 +1,25 @@
+"""Checks of the form of any value, shared by the modules of the package."""
+
+_LETTERS = 6
+
+
+def is_name(value):
+    """Tell whether the value is a string of one to six letters from a to z."""
+    if not isinstance(value, str) or not 1 <= len(value) <= _LETTERS:
+        return False
+    return all(["a" <= letter <= "z" for letter in value])
+
+
+def is_strings(value):
+    """Tell whether the value is a tuple of strings."""
+    return isinstance(value, tuple) and all([isinstance(item, str) for item in value])
+
+
+def has_shape(value, width):
+    """Tell whether the value is a tuple of two: a tuple of strings, and a tuple of tuples of so many strings."""
+    if not isinstance(value, tuple) or len(value) != 2:
+        return False
+    strings, groups = value
+    if not is_strings(strings) or not isinstance(groups, tuple):
+        return False
+    return all([is_strings(group) and len(group) == width for group in groups])
