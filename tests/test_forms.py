@@ -3,7 +3,7 @@
 import unittest
 
 from tests.samples import NAMES, NO_NAMES, NO_STRINGS
-from turndoors.forms import has_shape, is_name, is_strings
+from turndoors.forms import has_shape, is_name, is_strings, is_whole
 
 
 class FormsTest(unittest.TestCase):
@@ -25,6 +25,12 @@ class FormsTest(unittest.TestCase):
             self.assertIs(has_shape(value, 2), True)
         for value in (None, "ab", (), ((),), ((), (), ()), ((1,), ()), ((), (("x",),)), ((), (("x", 1),)), ((), "")):
             self.assertIs(has_shape(value, 2), False)
+
+    def test_whole(self):
+        for value in (0, 1, -1, 10 ** 3999):
+            self.assertIs(is_whole(value), True)
+        for value in (True, False, None, "", "1", (), (1,)):
+            self.assertIs(is_whole(value), False)
 
 
 if __name__ == "__main__":

@@ -19,6 +19,22 @@ FUNCTIONS = {
     "turndoors.texts": (
         "format_hall(hall)", "parse_hall(text)", "format_state(state)", "parse_state(hall, text)",
     ),
+    "turndoors.moves": (
+        "can_pass(hall, state, walker, door)", "pass_door(hall, state, walker, door)", "run(hall, state, row)",
+        "reverse(row)", "turn_door(hall, state, door)", "put_walker(hall, state, walker, room)",
+        "remove_walker(state, walker)",
+    ),
+    "turndoors.histories": (
+        "same_history(one, other)", "projections(row)", "least_row(row)", "rounds(row)", "merge(walkers, doors)",
+        "is_ring(walkers, doors, value)",
+    ),
+    "turndoors.bands": (
+        "reach(hall, state, walker)", "path(hall, state, walker, room)", "bands(hall, state)",
+        "still_doors(hall, state)", "is_enclosure(hall, state, value)",
+    ),
+    "turndoors.connect": (
+        "connect(hall, state, target)", "is_clash(hall, state, target, value)",
+    ),
 }
 
 CLASSES = {

@@ -23,3 +23,8 @@ def has_shape(value, width):
     if not is_strings(strings) or not isinstance(groups, tuple):
         return False
     return all([is_strings(group) and len(group) == width for group in groups])
+
+
+def is_whole(value):
+    """Tell whether the value is a whole number, which a boolean is not."""
+    return isinstance(value, int) and not isinstance(value, bool)
