@@ -86,6 +86,15 @@ def small_halls():
     return found + halls_with(4, 3)[::5]
 
 
+def small_states(walkers, most):
+    """Return the small halls, each with some of its states with these walkers."""
+    found = []
+    for hall in small_halls():
+        states = all_states(hall, walkers)
+        found.extend([(hall, state) for state in states[::1 + len(states) // most]])
+    return found
+
+
 def tuples_of_lots(rooms, most):
     """Return all tuples of up to so many tuples of different rooms; some of them have a room in two lots."""
     lots = [lot for size in range(len(rooms) + 1) for lot in itertools.permutations(rooms, size)]

@@ -31,6 +31,31 @@ def nested(value, depth):
     return value
 
 
+# Values that may stand in the place of any value or of any item of one.
+ODD_VALUES = (
+    None, True, False, 0, 1, -1, 2, 7, 10 ** 3999, -(10 ** 3999), "", "a", "b", "x", "p", "row", "a b", "\n", (), ((),),
+    ("a",), ("b", "b"), ("a", "b", "c"), ("x",), ("p", "x"), (("p", "x"),), (("p", "x"), ("p", 1)), (True,), (0, 0, 0),
+    (None, None), (("a",),), nested("a", 10), nested((), 9),
+)
+
+
+def changed(value, depth=2):
+    """Return the value with something in it replaced, left out, put in or doubled, down to this depth."""
+    found = list(ODD_VALUES)
+    if type(value) is tuple:
+        found.extend([value[::-1], value + value, (value,), *[value + (odd,) for odd in ODD_VALUES[:8]]])
+        for at, item in enumerate(value):
+            found.append(value[:at] + value[at + 1:])
+            found.append(value[:at] + (item, item) + value[at + 1:])
+            if depth > 0:
+                found.extend([value[:at] + (other,) + value[at + 1:] for other in changed(item, depth - 1)])
+    elif type(value) is int:
+        found.extend([value + 1, value - 1, -value, bool(value), str(value)])
+    elif type(value) is str:
+        found.extend([value + "a", value.upper(), value + " ", (value,)])
+    return found
+
+
 def wide_hall(rooms, doors):
     """Return a hall with so many rooms and doors; neighbouring rooms of a circle are joined."""
     names = tuple(LETTERS[n] for n in range(rooms))
@@ -67,11 +92,14 @@ def is_plain(value):
 class Case(unittest.TestCase):
     """A test case that looks at the values of errors."""
 
-    def raises(self, error, values, call, *args):
-        """Check that the call raises exactly this error with exactly these attributes."""
+    def raises(self, error, values, call, *args, **named):
+        """Check that the call raises exactly this error with exactly these attributes, and changes no argument."""
+        before = repr(args)
         with self.assertRaises(error) as caught:
-            call(*args)
+            call(*args, **named)
+        self.assertEqual(repr(args), before)
         self.assertIs(type(caught.exception), error)
+        self.assertEqual(set(vars(caught.exception)), set(values))
         for name, value in values.items():
             found = getattr(caught.exception, name)
             self.assertEqual(found, value)

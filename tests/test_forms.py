@@ -3,7 +3,7 @@
 import unittest
 
 from tests.samples import NAMES, NO_NAMES, NO_STRINGS
-from turndoors.forms import has_shape, is_name, is_strings, is_whole
+from turndoors.forms import has_shape, is_choice, is_groups, is_name, is_strings, is_whole
 
 
 class FormsTest(unittest.TestCase):
@@ -25,6 +25,18 @@ class FormsTest(unittest.TestCase):
             self.assertIs(has_shape(value, 2), True)
         for value in (None, "ab", (), ((),), ((), (), ()), ((1,), ()), ((), (("x",),)), ((), (("x", 1),)), ((), "")):
             self.assertIs(has_shape(value, 2), False)
+
+    def test_groups(self):
+        for value in ((), (("x", "y"),), (("x", "y"), ("", ""))):
+            self.assertIs(is_groups(value, 2), True)
+        for value in (None, "ab", ("xy",), (("x",),), (("x", 1),), (("x", "y"), ("x", "y", "z")), (("x", "y"), None)):
+            self.assertIs(is_groups(value, 2), False)
+
+    def test_choice(self):
+        for value in ((), ("a",), ("c", "a"), ("b", "c", "a")):
+            self.assertIs(is_choice(value, ("a", "b", "c")), True)
+        for value in (None, "a", "abc", ("d",), ("a", "a"), ("a", ""), ("a", 1), ("a", None), (("a",),), (True,)):
+            self.assertIs(is_choice(value, ("a", "b", "c")), False)
 
     def test_whole(self):
         for value in (0, 1, -1, 10 ** 3999):

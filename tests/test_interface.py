@@ -35,12 +35,52 @@ FUNCTIONS = {
     "turndoors.connect": (
         "connect(hall, state, target)", "is_clash(hall, state, target, value)",
     ),
+    "turndoors.meetings": (
+        "bring(hall, state, walker, room)", "swap(hall, state, one, other)", "meet(hall, state, one, other)",
+        "turn_ring(hall, state, doors)",
+    ),
+    "turndoors.reachable": (
+        "count_states(hall, state)", "all_states(hall, state, *, most=5000)", "crowd_for(hall, state, faces)",
+    ),
+    "turndoors.crowding": (
+        "most_in(hall, state, room)", "is_most(hall, state, room, value)",
+    ),
+    "turndoors.handturns": (
+        "fewest_turns(hall, state, wanted)", "is_fewest(hall, state, wanted, value)",
+    ),
+    "turndoors.shortest": (
+        "shortest_row(hall, state, target, *, most=600)", "is_shortest(hall, state, target, value, *, most=600)",
+    ),
+    "turndoors.observed": (
+        "beginnings(hall, seen)",
+    ),
+}
+
+CONSTANTS = {
+    "turndoors.halls": {"ROOMS": 8, "DOORS": 12},
+    "turndoors.states": {"WALKERS": 5},
+    "turndoors.reachable": {"STATES": 5000},
+    "turndoors.shortest": {"FEW": 600},
 }
 
 CLASSES = {
     "turndoors.errors": (
         "HallError", "InvalidHall", "InvalidState", "InvalidText", "Blocked", "NotRing", "Mismatch", "TooMany", "Full",
         "Unbalanced", "Rejected", "InvalidCommand", "UnknownRoom", "UnknownDoor", "UnknownWalker",
+    ),
+    "turndoors.keeper": ("Keeper",),
+    "turndoors.desk": ("Desk",),
+}
+
+METHODS = {
+    "turndoors.keeper.Keeper": (
+        "__init__(self, hall, state)", "pass_door(self, walker, door)", "turn(self, door)", "put(self, walker, room)",
+        "remove(self, walker)", "undo(self)", "several(self, changes, *, whole=True)", "log(self)", "state(self)",
+        "hall(self)", "counts(self)", "trail(self)", "way_back(self)", "__len__(self)", "__eq__(self, other)",
+        "__repr__(self)",
+    ),
+    "turndoors.desk.Desk": (
+        "__init__(self)", "say(self, command)", "__len__(self)",
     ),
 }
 
@@ -66,6 +106,23 @@ class InterfaceTest(unittest.TestCase):
                 found = getattr(importlib.import_module(module), name)
                 self.assertTrue(inspect.isclass(found))
                 self.assertEqual(found.__module__, module)
+
+    def test_methods(self):
+        for path, signatures in METHODS.items():
+            module, _, name = path.rpartition(".")
+            own = vars(getattr(importlib.import_module(module), name))
+            for signature in signatures:
+                method = signature.partition("(")[0]
+                self.assertEqual(method + str(inspect.signature(own[method])), signature)
+            # What else a class has is its own business, and its name says so.
+            others = {member for member in own if inspect.isfunction(own[member]) and not member.startswith("_")}
+            self.assertLessEqual(others, {signature.partition("(")[0] for signature in signatures})
+
+    def test_constants(self):
+        for module, values in CONSTANTS.items():
+            for name, value in values.items():
+                found = getattr(importlib.import_module(module), name)
+                self.assertEqual(repr(found), repr(value))
 
     def test_init_holds_only_a_docstring(self):
         tree = ast.parse((PACKAGE / "__init__.py").read_text(encoding="utf-8"))
@@ -97,14 +154,14 @@ class OuterFormTest(unittest.TestCase):
         for path, tree in files_with_trees():
             for node in ast.walk(tree):
                 self.assertNotIsInstance(node, ast.Import, path)
-                if isinstance(node, ast.ImportFrom):
+                if isinstance(node, ast.ImportFrom) and node.module != "math":
                     self.assertEqual(node.module.partition(".")[0], "turndoors", path)
                     for alias in node.names:
                         found = getattr(importlib.import_module(node.module), alias.name)
                         self.assertEqual(getattr(found, "__module__", node.module), node.module, path)
 
     def test_no_generator_expressions_and_no_decorators(self):
-        # Keeper will have an __eq__, and beside such a class LANGUAGE.md asks for lists in all, any and sum.
+        # Keeper has an __eq__, and beside such a class LANGUAGE.md asks for lists in all, any and sum.
         for path, tree in files_with_trees():
             for node in ast.walk(tree):
                 self.assertNotIsInstance(node, ast.GeneratorExp, path)

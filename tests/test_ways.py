@@ -1,12 +1,12 @@
-"""The helper modules: ways through the doors, and rows that bring walkers together."""
+"""What modules share: ways through the doors, steps between states, and rows that bring walkers together."""
 
 import unittest
 
 from tests import model
 from tests.samples import H, S
 from turndoors.exchanges import exchange_row, meeting_row
-from turndoors.moves import run
-from turndoors.ways import spread, ways_from, ways_out
+from turndoors.moves import end_of, run, steps_from
+from turndoors.ways import spread, ways_from, ways_in, ways_of, ways_out
 
 
 class WaysTest(unittest.TestCase):
@@ -26,6 +26,34 @@ class WaysTest(unittest.TestCase):
         self.assertEqual(ways_out(H, ("a", "b", "a"), "a"), [("x", "b"), ("z", "c")])
         self.assertEqual(ways_out(H, ("b", "b", "c"), "b"), [("x", "a"), ("y", "c")])
         self.assertEqual(ways_out(H, ("b", "b", "c"), "a"), [])
+
+    def test_ways_in(self):
+        self.assertEqual(ways_in(H, S[0], ("b",)), ["x"])
+        self.assertEqual(ways_in(H, S[0], ("c", "b")), ["x"])
+        self.assertEqual(ways_in(H, ("b", "b", "c"), ("a",)), ["x", "z"])
+        self.assertEqual(ways_in(H, S[0], ("a", "b", "c")), [])
+        self.assertEqual(ways_in(H, S[0], ()), [])
+
+    def test_ways_of(self):
+        self.assertEqual(ways_of(H, S[0]), [("x", "a", "b"), ("y", "b", "c"), ("z", "c", "a")])
+        self.assertEqual(ways_of((("a",), ()), ()), [])
+
+
+class StepsTest(unittest.TestCase):
+
+    def test_steps_from(self):
+        dice = model.Dice(53)
+        for hall, state in [dice.hall_and_state() for _ in range(100)]:
+            wanted = {(deed, model.step(hall, state, deed)) for deed in model.deeds(hall, state)}
+            found = steps_from(hall, state)
+            self.assertEqual(len(found), len(wanted))
+            self.assertEqual(set(found), wanted)
+
+    def test_end_of(self):
+        self.assertEqual(end_of(H, S, ()), S)
+        self.assertEqual(end_of(H, S, (("p", "x"),)), (("b", "b", "c"), (("p", "b"),)))
+        for value in (None, "px", ("px",), (("p",),), (("p", 1),), (("p", "y"),), (("q", "x"),), (("p", "x"), ("p", "z"))):
+            self.assertIsNone(end_of(H, S, value))
 
 
 class ExchangesTest(unittest.TestCase):

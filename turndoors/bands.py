@@ -1,9 +1,9 @@
 """Reaches of walkers, bands of walkers, and enclosures that no walker leaves."""
 
-from turndoors.errors import UnknownRoom
-from turndoors.forms import is_strings
+from turndoors.forms import is_choice
+from turndoors.halls import check_room
 from turndoors.states import room_of
-from turndoors.ways import spread, ways_from
+from turndoors.ways import spread, ways_from, ways_of
 
 
 def reach(hall, state, walker):
@@ -15,8 +15,7 @@ def reach(hall, state, walker):
 def path(hall, state, walker, room):
     """Return the doors of a shortest path from the walker's room to this room, or None if there is no path."""
     start = room_of(state, walker)
-    if room not in hall[0]:
-        raise UnknownRoom(room)
+    check_room(hall, room)
     return ways_from(hall, state[0], start).get(room)
 
 
@@ -31,6 +30,11 @@ def bands(hall, state):
             joined = [room for member in walkers for room in reaches[member]]
             found.append((walkers, tuple([room for room in hall[0] if room in joined])))
     return tuple(found)
+
+
+def grounds(hall, state):
+    """Return the grounds of all bands, which form an enclosure."""
+    return tuple([ground for walkers, ground in bands(hall, state)])
 
 
 def chains_from(hall, state, walker):
@@ -60,8 +64,8 @@ def _neighbours(reaches, walker):
 
 def still_doors(hall, state):
     """Return the doors whose ends are not both in one ground."""
-    grounds = [ground for walkers, ground in bands(hall, state)]
-    return tuple([door for door, one, other in hall[1] if not in_one_lot(grounds, one, other)])
+    enclosure = grounds(hall, state)
+    return tuple([door for door, one, other in hall[1] if not in_one_lot(enclosure, one, other)])
 
 
 def in_one_lot(lots, one, other):
@@ -81,17 +85,11 @@ def is_enclosure(hall, state, value):
 
 def _are_lots(hall, value):
     """Tell whether the value is a tuple of lots of which no two have a common room."""
-    if not isinstance(value, tuple) or not all([is_strings(lot) for lot in value]):
+    if not isinstance(value, tuple) or not all([isinstance(lot, tuple) and len(lot) > 0 for lot in value]):
         return False
-    if not all([len(lot) > 0 for lot in value]):
-        return False
-    rooms = [room for lot in value for room in lot]
-    return len(set(rooms)) == len(rooms) and all([room in hall[0] for room in rooms])
+    return is_choice(tuple([room for lot in value for room in lot]), hall[0])
 
 
 def _is_closed(hall, state, lot):
     """Tell whether each door with exactly one end in the lot faces its other end."""
-    for (name, one, other), face in zip(hall[1], state[0]):
-        if (one in lot) != (other in lot) and face in lot:
-            return False
-    return True
+    return not any([start in lot and end not in lot for door, start, end in ways_of(hall, state[0])])

@@ -1,6 +1,6 @@
 """From state to state: a row that leads there, or a clash that shows that none does."""
 
-from turndoors.bands import bands, in_one_lot, is_enclosure, still_doors
+from turndoors.bands import bands, grounds, in_one_lot, is_enclosure, still_doors
 from turndoors.errors import Mismatch
 from turndoors.exchanges import exchange_row
 from turndoors.forms import is_whole
@@ -12,8 +12,8 @@ from turndoors.ways import ways_from, ways_out
 
 def connect(hall, state, target):
     """Return a row from the state to the target, or a clash if there is no row."""
-    _check_walkers(state, target)
-    clash = _find_clash(hall, state, target)
+    check_walkers(state, target)
+    clash = find_clash(hall, state, target)
     if clash is not None:
         return clash
     turning = _turning_row(hall, state, target)
@@ -23,7 +23,7 @@ def connect(hall, state, target):
 
 def is_clash(hall, state, target, value):
     """Tell whether the value is a clash, which shows that the target cannot be reached from the state."""
-    _check_walkers(state, target)
+    check_walkers(state, target)
     if not isinstance(value, tuple) or len(value) == 0:
         return False
     if value[0] == "count":
@@ -33,7 +33,8 @@ def is_clash(hall, state, target, value):
     return value[0] == "door" and _is_door_clash(hall, state, target, value)
 
 
-def _check_walkers(state, target):
+def check_walkers(state, target):
+    """Raise Mismatch for the least walker that only one of the two states has."""
     ones = _walkers(state)
     others = _walkers(target)
     lone = [walker for walker in ones + others if walker not in ones or walker not in others]
@@ -71,14 +72,13 @@ def _is_door_clash(hall, state, target, value):
     return not in_one_lot(enclosure, one, other) and face_of(hall, state, door) != face_of(hall, target, door)
 
 
-def _find_clash(hall, state, target):
+def find_clash(hall, state, target):
     """Return a clash, or None if there is none, which means that the target can be reached."""
     for room, now, then in zip(hall[0], counts(hall, state), counts(hall, target)):
         if now != then:
             return ("count", room, now, then)
-    parts = bands(hall, state)
-    enclosure = tuple([ground for walkers, ground in parts])
-    for walkers, ground in parts:
+    enclosure = grounds(hall, state)
+    for walkers, ground in bands(hall, state):
         for walker in walkers:
             if room_of(target, walker) not in ground:
                 return ("place", walker, enclosure)

@@ -15,14 +15,25 @@ def is_strings(value):
     return isinstance(value, tuple) and all([isinstance(item, str) for item in value])
 
 
+def is_groups(value, width):
+    """Tell whether the value is a tuple of tuples of so many strings."""
+    if not isinstance(value, tuple):
+        return False
+    return all([is_strings(group) and len(group) == width for group in value])
+
+
 def has_shape(value, width):
     """Tell whether the value is a tuple of two: a tuple of strings, and a tuple of tuples of so many strings."""
     if not isinstance(value, tuple) or len(value) != 2:
         return False
-    strings, groups = value
-    if not is_strings(strings) or not isinstance(groups, tuple):
+    return is_strings(value[0]) and is_groups(value[1], width)
+
+
+def is_choice(value, names):
+    """Tell whether the value is a tuple of different ones of these names."""
+    if not is_strings(value) or len(set(value)) != len(value):
         return False
-    return all([is_strings(group) and len(group) == width for group in groups])
+    return all([item in names for item in value])
 
 
 def is_whole(value):

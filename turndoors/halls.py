@@ -45,20 +45,23 @@ def ends_of(hall, door):
     raise UnknownDoor(door)
 
 
+def check_room(hall, room):
+    """Raise UnknownRoom if the hall has no such room."""
+    if room not in hall[0]:
+        raise UnknownRoom(room)
+
+
 def doors_at(hall, room):
     """Return the names of all doors that have the room as an end."""
-    rooms, doors = hall
-    if room not in rooms:
-        raise UnknownRoom(room)
-    return tuple([name for name, one, other in doors if room in (one, other)])
+    check_room(hall, room)
+    return tuple([name for name, one, other in hall[1] if room in (one, other)])
 
 
 def glue(hall, one, other):
     """Return the hall in which the room other is merged into the room one."""
     rooms, doors = hall
-    for room in (one, other):
-        if room not in rooms:
-            raise UnknownRoom(room)
+    check_room(hall, one)
+    check_room(hall, other)
     glued = []
     for index, (name, *ends) in enumerate(doors):
         first, second = [one if end == other else end for end in ends]

@@ -1,8 +1,10 @@
 """Passes: deeds and rows of deeds, and changes of a state by hand."""
 
-from turndoors.errors import Blocked, Full, Mismatch, UnknownDoor, UnknownRoom, UnknownWalker
-from turndoors.halls import ends_of
-from turndoors.states import WALKERS, room_of
+from turndoors.errors import Blocked, Full, Mismatch, UnknownDoor, UnknownWalker
+from turndoors.forms import is_groups
+from turndoors.halls import check_room, ends_of
+from turndoors.states import WALKERS, check_walker, room_of
+from turndoors.ways import ways_out
 
 
 def can_pass(hall, state, walker, door):
@@ -29,6 +31,25 @@ def run(hall, state, row):
     return state
 
 
+def end_of(hall, state, value):
+    """Return the state to which the value leads, or None if it is not a tuple of deeds that can be done."""
+    if not is_groups(value, 2):
+        return None
+    try:
+        return run(hall, state, value)
+    except Blocked:
+        return None
+
+
+def steps_from(hall, state):
+    """Return the pairs (deed, state after it) of all deeds that can be done."""
+    found = []
+    for walker, room in state[1]:
+        for door, _ in ways_out(hall, state[0], room):
+            found.append(((walker, door), pass_door(hall, state, walker, door)))
+    return found
+
+
 def _can_be_done(hall, state, walker, door):
     try:
         return can_pass(hall, state, walker, door)
@@ -52,8 +73,7 @@ def turn_door(hall, state, door):
 def put_walker(hall, state, walker, room):
     """Return the state with one more walker, in this room."""
     faces, places = state
-    if room not in hall[0]:
-        raise UnknownRoom(room)
+    check_room(hall, room)
     if walker in [name for name, place in places]:
         raise Mismatch(walker)
     if len(places) >= WALKERS:
@@ -63,9 +83,8 @@ def put_walker(hall, state, walker, room):
 
 def remove_walker(state, walker):
     """Return the state without this walker."""
+    check_walker(state, walker)
     faces, places = state
-    if walker not in [name for name, room in places]:
-        raise UnknownWalker(walker)
     return (faces, tuple([(name, room) for name, room in places if name != walker]))
 
 

@@ -14,14 +14,15 @@ def validate_state(hall, value):
     faces, places = value
     if len(places) > WALKERS:
         raise InvalidState("many", 0)
-    _check_faces(doors, faces)
+    check_faces(hall, faces)
     _check_places(rooms, places)
     return True
 
 
-def _check_faces(doors, faces):
+def check_faces(hall, faces):
+    """Raise InvalidState for the first of these strings, one for each door, that is not an end of its door."""
     for index, face in enumerate(faces):
-        if face not in doors[index][1:]:
+        if face not in hall[1][index][1:]:
             raise InvalidState("face", index)
 
 
@@ -55,6 +56,12 @@ def room_of(state, walker):
         if name == walker:
             return room
     raise UnknownWalker(walker)
+
+
+def check_walker(state, walker):
+    """Raise UnknownWalker if the state has no such walker."""
+    if walker not in [name for name, room in state[1]]:
+        raise UnknownWalker(walker)
 
 
 def glue_state(state, one, other):

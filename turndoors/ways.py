@@ -24,10 +24,16 @@ def ways_from(hall, faces, room):
     return spread(room, lambda here: ways_out(hall, faces, here))
 
 
+def ways_in(hall, faces, rooms):
+    """Return the doors with exactly one end among these rooms that face their other end."""
+    return [door for door, start, end in ways_of(hall, faces) if start not in rooms and end in rooms]
+
+
 def ways_out(hall, faces, room):
     """Return the pairs (door, its other end) of the doors that face the room."""
-    found = []
-    for (door, one, other), face in zip(hall[1], faces):
-        if face == room:
-            found.append((door, other if face == one else one))
-    return found
+    return [(door, end) for door, start, end in ways_of(hall, faces) if start == room]
+
+
+def ways_of(hall, faces):
+    """Return for each door its name, the room that it faces, and its other end."""
+    return [(door, face, other if face == one else one) for (door, one, other), face in zip(hall[1], faces)]
